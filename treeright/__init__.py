@@ -1,0 +1,1 @@
+"""One right along a tree: asks led toward it, arrows that turn as it comes."""
