@@ -132,6 +132,31 @@ class Form(unittest.TestCase):
             self.assertRegex(node.module, r"^treeright\.[a-z]", where)
             self.assertNotIn("*", [alias.name for alias in node.names], where)
 
+    def test_no_two_files_draw_from_one_another(self):
+        drawn = {}
+        for name, tree in trees():
+            rows = [node for node in ast.walk(tree) if isinstance(node, ast.ImportFrom)]
+            drawn[name] = {row.module.split(".")[1] + ".py" for row in rows}
+        for unused in drawn:
+            for name in drawn:
+                drawn[name] |= {further for other in drawn[name] for further in drawn[other]}
+        for name in drawn:
+            self.assertNotIn(name, drawn[name])
+
+    def test_names_are_drawn_from_the_file_that_defines_them(self):
+        tops = {name: {row.name for row in tree.body if isinstance(row, (ast.FunctionDef, ast.ClassDef))}
+                | {target.id for row in tree.body if isinstance(row, ast.Assign) for target in row.targets}
+                for name, tree in trees()}
+        for where, node in nodes(ast.ImportFrom):
+            for alias in node.names:
+                self.assertIn(alias.name, tops[node.module.split(".")[1] + ".py"], where)
+
+    def test_what_is_drawn_is_used(self):
+        for name, tree in trees():
+            read = {node.id for node in ast.walk(tree) if isinstance(node, ast.Name)}
+            drawn = {alias.name for row in tree.body if isinstance(row, ast.ImportFrom) for alias in row.names}
+            self.assertEqual(drawn - read, set(), name)
+
     def test_top_of_a_file(self):
         for name, tree in trees():
             bound = []
@@ -158,6 +183,23 @@ class Form(unittest.TestCase):
                     self.assertIsInstance(right, ast.Constant, where)
                     self.assertTrue(right.value is None or isinstance(right.value, bool), where)
 
+    def test_what_is_walked_at_once_is_not_kept(self):
+        for where, node in nodes(ast.Assign, ast.Return):
+            if isinstance(node.value, ast.Call):
+                called = node.value.func
+                word = called.id if isinstance(called, ast.Name) else called.attr
+                self.assertNotIn(word, ("zip", "enumerate", "reversed", "range", "items", "keys", "values"), where)
+
+    def test_what_a_loop_walks_is_not_changed_in_it(self):
+        changes = {"append", "clear", "extend", "insert", "pop", "remove", "reverse", "setdefault", "update", "sort"}
+        for where, loop in nodes(ast.For):
+            walked = {ast.unparse(node) for node in ast.walk(loop.iter) if isinstance(node, (ast.Name, ast.Attribute))}
+            for node in [node for row in loop.body for node in ast.walk(row)]:
+                if isinstance(node, ast.Attribute) and node.attr in changes:
+                    self.assertNotIn(ast.unparse(node.value), walked, where)
+                if isinstance(node, ast.Subscript) and not isinstance(node.ctx, ast.Load):
+                    self.assertNotIn(ast.unparse(node.value), walked, where)
+
     def test_loops_have_no_else(self):
         for where, node in nodes(ast.For, ast.While):
             self.assertEqual(node.orelse, [], where)
@@ -178,6 +220,16 @@ class Names(unittest.TestCase):
                 self.assertIsInstance(node.ctx, ast.Load, where)
         for where, node in nodes(ast.arg):
             self.assertNotIn(node.arg, dir(builtins), where)
+
+    def test_parameters_and_locals_are_not_called_like_classes_and_imports(self):
+        for name, tree in trees():
+            taken = {alias.name for row in tree.body if isinstance(row, ast.ImportFrom) for alias in row.names}
+            taken |= {row.name for row in tree.body if isinstance(row, ast.ClassDef)}
+            for node in ast.walk(tree):
+                if isinstance(node, ast.arg):
+                    self.assertNotIn(node.arg, taken, name)
+                if isinstance(node, ast.Name) and isinstance(node.ctx, ast.Store):
+                    self.assertNotIn(node.id, taken | set(dir(builtins)), name)
 
     def test_no_name_is_a_method_and_a_value(self):
         self.assertEqual(methods() & values(), set())

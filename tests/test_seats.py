@@ -1,7 +1,7 @@
 import copy
 import unittest
 
-from odd_things import NAMES, no_names, no_names_nor_none, other_kinds
+from helper import NAMES, no_names, no_names_nor_none, other_kinds
 from treeright.errors import NoAsker, NoHouse, NoLetter, NoSeat
 from treeright.seats import Seat
 

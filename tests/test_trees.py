@@ -2,7 +2,7 @@ import copy
 import itertools
 import unittest
 
-from odd_things import NAMES, no_names_nor_none, other_kinds
+from helper import NAMES, no_names_nor_none, other_kinds
 from treeright.errors import NoHouse, NoTree
 from treeright.trees import Tree, is_name, is_whole
 

@@ -43,6 +43,29 @@ class Seat:
         """Whether the seat has asked its arrow."""
         return self.asked
 
+    def askers(self):
+        """The askers that are here, as tuples (name, waits): waits is False for the one that is inside."""
+        waiting = [(name, True) for kind, name in self.waiting if kind == "asker"]
+        return waiting if self.holder is None else [(self.holder, False)] + waiting
+
+    def crowd(self):
+        """How many are in the row or inside."""
+        return len(self.waiting) + (0 if self.holder is None else 1)
+
+    def twin(self):
+        """Another seat that stands as this one does."""
+        other = Seat(self.pointer)
+        other.waiting = list(self.waiting)
+        other.holder = self.holder
+        other.asked = self.asked
+        return other
+
+    def settle(self, arrow):
+        """Behind a mending nobody but askers waits, nothing is asked, and who is inside stays so."""
+        self.pointer = arrow
+        self.waiting = [one for one in self.waiting if one[0] == "asker"]
+        self.asked = False
+
     def want(self, asker):
         """An asker waits, last in the row."""
         check_asker(asker)

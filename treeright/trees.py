@@ -23,11 +23,19 @@ def is_one_of(thing, houses):
     return is_name(thing) and thing in houses
 
 
+def are_names(thing):
+    """Whether a thing is a list of names, perhaps empty."""
+    return isinstance(thing, list) and all([is_name(name) for name in thing])
+
+
+def are_unlike(names):
+    """Whether none of these names stands twice."""
+    return len(set(names)) == len(names)
+
+
 def are_houses(thing):
     """Whether a thing is a list of unlike names, one at least."""
-    if not isinstance(thing, list) or not all([is_name(name) for name in thing]):
-        return False
-    return len(thing) >= 1 and len(set(thing)) == len(thing)
+    return are_names(thing) and are_unlike(thing) and len(thing) >= 1
 
 
 def is_tie(thing, houses):
