@@ -1,7 +1,7 @@
 """What several test files need: things that are names and that are none, worlds to draw, and a plain second world.
 
-The second world is told anew from the points, without anything of the package but the refusals and the tree, so that
-the package's world can be held against it row by row.
+The second world is told anew from the points, without anything of the package but the refusals, the tree and what a
+name is, so that the package's world can be held against it row by row.
 """
 
 import random
