@@ -1,4 +1,4 @@
-"""What several test files need: things that are names and that are none, worlds to draw, and a plain second world.
+"""What several test files need: things that are names and that are none, drawn runs, and a plain second world.
 
 The second world is told anew from the points, without anything of the package but the refusals, the tree and what a
 name is, so that the package's world can be held against it row by row.
@@ -9,6 +9,9 @@ import unittest
 
 from treeright.errors import Down, NoAsker, NoHouse, NoLetter, NoMend, NoRight, NoRow, NoTie
 from treeright.trees import Tree, is_name
+from treeright.world import World
+
+ASKERS = ["a", "b", "ann", "bob"]
 
 NAMES = ["a", "z", "m", "ab", "zz", "house", "abcdefgh", "zzzzzzzz", "aaaaaaaa"]
 
@@ -396,3 +399,19 @@ def drawn_fall(drawing, plain):
     for house in down:
         drawing.choice([kept, kept, out, []]).append(house)
     return ("mend", kept, out[1:] if len(out) == len(plain.tree.houses()) else out)
+
+
+class Moments(Case):
+    """Runs of the package's world and the plain one side by side."""
+
+    def drawn(self, seed, steps, falls, most_houses=12):
+        """A run: after each row its lines are compared, and the world, the plain one and the row are told."""
+        drawing, tree, places = drawn_start(seed, most_houses)
+        world, plain = World(tree, places), PlainWorld(tree, places)
+        for unused in range(steps):
+            row = drawn_row(drawing, plain, ASKERS)
+            if falls and drawing.random() < falls:
+                row = drawn_fall(drawing, plain)
+            if row is not None:
+                self.same(world.put(row), plain.put(row), row)
+                yield world, plain, row

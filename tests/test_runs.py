@@ -5,13 +5,12 @@ import itertools
 import unittest
 
 from helper import (
-    Case, PlainWorld, drawn_fall, drawn_row, drawn_start, no_names_nor_none, no_rights, spoil, ways, world_told,
+    ASKERS, Case, Moments, PlainWorld, drawn_fall, drawn_row, drawn_start, no_names_nor_none, no_rights, spoil, ways,
+    world_told,
 )
 from treeright.standing import arrows, lead, where
 from treeright.trees import Tree
 from treeright.world import World
-
-ASKERS = ["a", "b", "ann", "bob"]
 
 
 def drawn_nonsense(drawing, plain):
@@ -55,20 +54,6 @@ def due_lead(plain, house, right):
     if after in plain.down or pointed[after] in (None, house):
         return [house, after]
     return [house] + due_lead(plain, after, right)
-
-
-class Moments(Case):
-    def drawn(self, seed, steps, falls, most_houses=12):
-        """A run: after each row its lines are compared, and the world, the plain one and the row are told."""
-        drawing, tree, places = drawn_start(seed, most_houses)
-        world, plain = World(tree, places), PlainWorld(tree, places)
-        for unused in range(steps):
-            row = drawn_row(drawing, plain, ASKERS)
-            if falls and drawing.random() < falls:
-                row = drawn_fall(drawing, plain)
-            if row is not None:
-                self.same(world.put(row), plain.put(row), row)
-                yield world, plain, row
 
 
 class AsThePointsTell(Moments):
@@ -249,68 +234,6 @@ class WhereAllIsUp(Moments):
                     moments += 1
                     self.check_moment(world, plain.many)
         self.assertGreater(moments, 500)
-
-
-class GivenInTheEnd(Moments):
-    """What point 28 says of a world alone, asked of the package alone."""
-
-    def due_rows(self, world):
-        """Rows by which the first letter of each way comes in, and each that is inside is done."""
-        houses = world.tree().houses()
-        rows = [("come", *way) for way in ways(world.tree()) if world.letters(*way)]
-        return rows + [("done", house, name) for house in houses for name, right, waits in world.house(house).askers()
-                       if not waits]
-
-    def waiting(self, world):
-        return {(house, name) for house in world.tree().houses()
-                for name, right, waits in world.house(house).askers() if waits}
-
-    def given(self, lines):
-        return [line[1:3] for line in lines if line[0] == "given"]
-
-    def test_where_nobody_wants_any_more(self):
-        for seed in range(600, 660):
-            drawing, tree, places = drawn_start(seed)
-            for world, plain, row in self.drawn(seed, 60, 0):
-                pass
-            waiting, given, turns = self.waiting(world), set(), 0
-            while self.waiting(world):
-                turns += 1
-                self.assertLess(turns, 2000, "somebody waits for ever")
-                rows = self.due_rows(world)
-                for row in drawing.sample(rows, len(rows)):
-                    given |= set(self.given(world.put(row)))
-            self.assertLessEqual(waiting, given)
-
-    def test_where_all_want_again_and_again(self):
-        for seed in range(700, 715):
-            drawing, tree, places = drawn_start(seed, 6)
-            world = World(tree, places)
-            given = {(house, asker): 0 for house in tree.houses() for asker in ASKERS[:2]}
-            for unused in range(400):
-                rows = self.due_rows(world)
-                rows = drawing.sample(rows, len(rows))
-                for house, asker in given:
-                    if asker not in [name for name, right, waits in world.house(house).askers()]:
-                        rows.append(("want", house, asker, drawing.choice([None, *range(len(places))])))
-                for one in [one for row in rows for one in self.given(world.put(row))]:
-                    given[one] += 1
-            self.assertGreater(min(given.values()), 5)
-
-    def test_where_the_letters_of_one_that_waits_are_late(self):
-        for seed in range(800, 840):
-            drawing, tree, places = drawn_start(seed, 6)
-            world, house, steps = World(tree, places), drawing.choice(tree.houses()), 0
-            world.put(("want", house, "slow", 0))
-            while (house, "slow") in self.waiting(world):
-                steps += 1
-                self.assertLess(steps, 2000, "somebody waits for ever")
-                for other in tree.houses():
-                    if other != house and not world.house(other).askers():
-                        world.put(("want", other, "busy", 0))
-                rows = self.due_rows(world)
-                soon = [row for row in rows if house not in row[1:]]
-                world.put(drawing.choice(rows if steps % 8 == 0 or not soon else soon))
 
 
 if __name__ == "__main__":

@@ -106,6 +106,10 @@ class House:
         other.seats = [seat.twin() for seat in self.seats]
         return other
 
+    def state(self):
+        """What stands at each seat."""
+        return [seat.state() for seat in self.seats]
+
     def settle(self, neighbours, arrows):
         """Behind a mending: the neighbours and arrows are these, and of all that waits askers alone stay."""
         self.nearby = list(neighbours)

@@ -60,6 +60,10 @@ class Seat:
         other.asked = self.asked
         return other
 
+    def state(self):
+        """The arrow, the row, who is inside and whether it has asked."""
+        return (self.pointer, list(self.waiting), self.holder, self.asked)
+
     def settle(self, arrow):
         """Behind a mending nobody but askers waits, nothing is asked, and who is inside stays so."""
         self.pointer = arrow

@@ -80,6 +80,12 @@ class World:
         """How many rights there are."""
         return self.many
 
+    def state(self):
+        """All that stands: the tree, what is down, the letters, and each house, one that is down as it fell."""
+        letters = {way: list(self.queues[way]) for way in self.queues}
+        homes = {name: self.homes[name].state() for name in self.homes}
+        return (self.shape.houses(), self.shape.ties(), sorted(self.fallen), sorted(self.severed), letters, homes)
+
     def check_up(self, house):
         """Refuse what is no house of the tree, or is down."""
         if self.is_down(house):
