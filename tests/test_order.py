@@ -1,8 +1,9 @@
 """Point 28, asked of the package alone: who goes ahead of one whose chain is whole, and that it is given the right."""
 
+import copy
 import unittest
 
-from helper import ASKERS, Case, Moments, drawn_start, ways
+from helper import ASKERS, Case, Moments, drawn_start, ways, world_told
 from treeright.chains import ahead, is_whole_chain
 from treeright.trees import Tree
 from treeright.world import World
@@ -19,6 +20,12 @@ def who_waits(world):
     """A dict of each (house, asker) that waits to the right for which it does."""
     return {(house, name): right for house in world.tree().houses()
             for name, right, waits in world.house(house).askers() if waits}
+
+
+def who_is_free(world, askers):
+    """Each (house, asker) of these askers that can want."""
+    here = [(house, name) for house in world.tree().houses() for name, right, waits in world.house(house).askers()]
+    return [(house, name) for house in world.tree().houses() for name in askers if (house, name) not in here]
 
 
 def who_is_given(lines):
@@ -72,12 +79,9 @@ class AheadOfOne(Case):
 
     def drawn_rows(self, drawing, watch, eager):
         """Rows that can be put now; who is eager wants as soon as it can."""
-        world = watch.world
-        here = [(house, name) for house in world.tree().houses() for name, right, waits in world.house(house).askers()]
-        free = [(house, name) for house in world.tree().houses() for name in ASKERS if (house, name) not in here]
-        wants = [("want", *one, drawing.choice(watch.rights)) for one in free]
-        leaves = [("leave", *one) for one in who_waits(world) if drawing.random() < 0.05]
-        return due_rows(world) * 2 + leaves + (wants if eager else wants[:1])
+        wants = [("want", *one, drawing.choice(watch.rights)) for one in who_is_free(watch.world, ASKERS)]
+        leaves = [("leave", *one) for one in who_waits(watch.world) if drawing.random() < 0.05]
+        return due_rows(watch.world) * 2 + leaves + (wants if eager else wants[:1])
 
     def finish(self, drawing, watch, leaving):
         """Nobody wants any more: all letters come in, each that is inside is done, until nobody waits."""
@@ -121,6 +125,82 @@ class AheadOfOne(Case):
         self.same([ahead(world, "a", name) for name in ASKERS[1:]], [1, 2, 3])
         order = [one for name in ASKERS for one in who_is_given(world.put(("done", "a", name)))]
         self.same(order, [("a", name) for name in ASKERS[1:]])
+
+
+class EachFuture(Case):
+    """Each way in which a small world without falls can go on from each standing that it can come to."""
+
+    def standing(self, world):
+        told = world_told(world, 1)
+        return repr([told["houses"], told["letters"]])
+
+    def next_rows(self, world, askers):
+        leaves = [("leave", *one) for one in who_waits(world)]
+        return due_rows(world) + leaves + [("want", *one, 0) for one in who_is_free(world, askers)]
+
+    def walk(self, tree, askers):
+        """A dict of each standing to a world that stands so and its rows, each with the standing behind it."""
+        first = World(tree, ["a"])
+        found, fresh = {self.standing(first): (first, [])}, [self.standing(first)]
+        while fresh:
+            world, rows = found[fresh.pop(0)]
+            for row in self.next_rows(world, askers):
+                behind = copy.deepcopy(world)
+                given = who_is_given(behind.put(row))
+                standing = self.standing(behind)
+                if standing not in found:
+                    found[standing] = (behind, [])
+                    fresh.append(standing)
+                rows.append((row, standing, given))
+        return found
+
+    def check_each_once(self, found, standing, one):
+        """Nobody is given the right twice ahead of one that doesn't leave, whoever wants."""
+        seen, fresh = {(standing, frozenset())}, [(standing, frozenset())]
+        while fresh:
+            here, others = fresh.pop()
+            for row, behind, given in found[here][1]:
+                if row == ("leave", *one) or one in given:
+                    continue
+                self.assertEqual(others & set(given), set())
+                if (behind, others | set(given)) not in seen:
+                    seen.add((behind, others | set(given)))
+                    fresh.append((behind, others | set(given)))
+
+    def most_ahead(self, found, standing, one, known):
+        """How many are given the right at most from here on ahead of one, where nobody wants or leaves."""
+        if standing not in known:
+            known[standing] = None
+            rows = [row for row in found[standing][1] if row[0][0] in ("come", "done")]
+            self.assertNotEqual(rows, [], "somebody waits for ever")
+            known[standing] = max(
+                0 if one in given else len(given) + self.most_ahead(found, behind, one, known)
+                for row, behind, given in rows)
+        self.assertIsNotNone(known[standing], "somebody waits for ever")
+        return known[standing]
+
+    def check(self, tree, askers):
+        whole, found = 0, self.walk(tree, askers)
+        for standing, (world, rows) in found.items():
+            for one in who_waits(world):
+                if is_whole_chain(world, *one):
+                    whole += 1
+                    self.check_each_once(found, standing, one)
+                    # The one that is inside was given the right ahead of this moment, and all others may be behind it.
+                    self.same(ahead(world, *one), 1 + self.most_ahead(found, standing, one, {}))
+        return len(found), whole
+
+    def test_a_house_with_three_askers(self):
+        self.same(self.check(Tree(["a"], []), ["x", "y", "z"]), (16, 18))
+
+    def test_two_houses_with_two_askers_each(self):
+        self.same(self.check(Tree(["a", "b"], [("a", "b")]), ["x", "y"]), (230, 136))
+
+    def test_three_houses_with_an_asker_each(self):
+        self.same(self.check(Tree(["a", "b", "c"], [("a", "b"), ("b", "c")]), ["x"]), (302, 34))
+
+    def test_four_houses_with_an_asker_each(self):
+        self.same(self.check(Tree(["a", "b", "c", "d"], [("a", "b"), ("a", "c"), ("c", "d")]), ["x"]), (2496, 356))
 
 
 class GivenInTheEnd(Moments):

@@ -82,6 +82,12 @@ class Lines(TextCase):
             if word != "any":
                 self.unread(0, read_line, f"want a b {word}")
 
+    def test_signs_that_are_no_figures(self):
+        for sign in [chr(code) for code in range(32, 127) if chr(code) not in "0123456789"] + ["\n"]:
+            for word in (sign, "1" + sign, sign + "1", "1" + sign + "1"):
+                for text in (f"want a b {word}", f"given a b {word}", f"anew {word} a"):
+                    self.unread(0, read_line, text)
+
     def test_any_stands_in_want_alone(self):
         for text in (
                 "given a b any", "sends a b any ask", "lost a b any right", "anew any a", "mend any", "mend + any any"):

@@ -82,8 +82,9 @@ def read_row(text):
 def read_begin(text):
     """The tree and the houses that have the rights at first, of a begin's text."""
     first, feed, others = text.partition("\n")
+    # A blank stands behind begin, so that there is one word at least.
     places = first.split(" ")[1:]
-    if feed == "" or not are_names(places) or len(places) == 0:
+    if feed == "" or not are_names(places):
         raise NoLine("a begin has names, a line feed and a tree")
     return read_tree(others), places
 
@@ -98,11 +99,11 @@ class Desk:
         """Answer a row by a text."""
         if not isinstance(row, str):
             raise NoLine("a row is a text")
-        word, *words = row.split(" ")
-        if word == "begin":
+        if row.startswith("begin "):
             return self.begin(row)
         if self.world is None:
             raise NoLine("there is no world yet")
+        word, *words = row.split(" ")
         if word in QUESTIONS:
             answer = ANSWERS[word]
             return answer(self.world, read_question(word, words))
